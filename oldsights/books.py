@@ -63,6 +63,21 @@ def is_deed(book, thing):
     return is_number(book, thing) and book[1][thing][0] == "deed"
 
 
+def kinds_of(book):
+    """The numbers of all kinds, ascending."""
+    return list(range(len(book[1])))
+
+
+def deeds_of(book):
+    """The numbers of all kinds that are deeds, ascending."""
+    return [k for k in kinds_of(book) if is_deed(book, k)]
+
+
+def outs_of(book):
+    """The numbers of all kinds that are out, ascending."""
+    return [k for k in kinds_of(book) if is_out(book, k)]
+
+
 def is_row_here(book, thing):
     """Whether the thing, anything, is a row of the book."""
     return isinstance(thing, (list, tuple)) and all([is_number(book, k) for k in thing])
@@ -87,6 +102,30 @@ def is_marks_here(book, thing):
 def behind(book, state, k):
     """The state behind kind k if it comes in the state, or None if it cannot come."""
     return book[1][k][1][state]
+
+
+def states_with(book, states, k):
+    """Those of the states in which kind k can come."""
+    return [s for s in states if behind(book, s, k) is not None]
+
+
+def states_behind(book, states, kinds):
+    """All states to which one of these kinds leads from one of these states, perhaps several times."""
+    return [behind(book, s, k) for k in kinds for s in states_with(book, states, k)]
+
+
+def reached(book, starts, kinds):
+    """All states, ascending, to which some row of these kinds leads from one of the starts."""
+    found = {s: True for s in starts}
+    left = list(found)
+    while left:
+        at = left.pop()
+        for k in kinds:
+            to = behind(book, at, k)
+            if to is not None and to not in found:
+                found[to] = True
+                left.append(to)
+    return sorted(found)
 
 
 def led_here(book, state, row):

@@ -9,19 +9,7 @@ from oldsights import books
 from oldsights.books import accepts, come_to, is_book, is_marks, is_row, led, overlooks
 from oldsights.errors import NoBook, NoDeed, NoMarks, NoRow, NoState, NoTrial
 from tests import samples
-from tests.samples import BIG, LEAST, LINE, LOOP, MAIL, MAIL_NONE, MAIL_PAGE, RING
-
-
-def same(test, found, wanted):
-    """Equal, also in what tells numbers from True and False and lists from tuples."""
-    test.assertEqual(repr(found), repr(wanted))
-
-
-def lists_in(thing):
-    """All list objects within the thing."""
-    if not isinstance(thing, (list, tuple)):
-        return []
-    return [thing] * isinstance(thing, list) + [part for inner in thing for part in lists_in(inner)]
+from tests.samples import BIG, LEAST, LINE, LOOP, MAIL, MAIL_NONE, MAIL_PAGE, RING, lists_in, same
 
 
 class Examples(unittest.TestCase):

@@ -48,6 +48,13 @@ class Form(unittest.TestCase):
                         self.assertIsNone(name.asname)
                         self.assertIn(name.name, defined)
 
+    def test_imports_are_used(self):
+        for path, tree in trees():
+            used = {node.id for node in ast.walk(tree) if isinstance(node, ast.Name)}
+            for node in tree.body:
+                if isinstance(node, ast.ImportFrom):
+                    self.assertLessEqual({name.name for name in node.names}, used, path)
+
     def defined(self, path):
         names = []
         for node in ast.parse(path.read_text()).body:

@@ -9,15 +9,10 @@ from oldsights import logs
 from oldsights.errors import NoBook, NoLog, NoMarks
 from oldsights.logs import faults_in, read_log
 from tests import samples
-from tests.samples import LEAST, LINE, LOOP, MAIL, MAIL_NONE, MAIL_PAGE, RING
+from tests.samples import LEAST, LINE, LOOP, MAIL, MAIL_NONE, MAIL_PAGE, RING, same
 
 FULL = ((0, 1), ())
 EMPTY = ((), ())
-
-
-def same(test, found, wanted):
-    """Equal, also in what tells numbers from True and False and lists from tuples."""
-    test.assertEqual(repr(found), repr(wanted))
 
 
 class Examples(unittest.TestCase):
