@@ -206,7 +206,8 @@ def rows_from(book, state):
         # A level is in the order of its rows, and kinds are tried in order:
         # so whatever first finds a state has the least of its shortest rows.
         further = []
-        for at in level:
+        # A copy is walked, since the list that grows here is the next level.
+        for at in list(level):
             for k in range(len(book[1])):
                 to = behind(book, at, k)
                 if to is not None and to not in found:

@@ -57,7 +57,8 @@ def walks_from(book, looks):
     level = list(found)
     while level:
         further = []
-        for state, bits in level:
+        # A copy is walked, since the list that grows here is the next level.
+        for state, bits in list(level):
             look, row = found[(state, bits)]
             for k in kinds_of(book):
                 to = (behind(book, state, k), bits | (1 << k))

@@ -10,12 +10,80 @@ FILES = sorted(path for path in PACKAGE.iterdir() if path.name != "__pycache__")
 BUILTINS = {"len", "range", "enumerate", "zip", "min", "max", "sum", "abs", "sorted", "reversed", "int", "str", "bool",
             "list", "tuple", "dict", "set", "isinstance", "ord", "any", "all", "super", "iter", "ValueError",
             "IndexError", "KeyError", "NotImplemented"}
+CHANGING = {"append", "clear", "extend", "insert", "pop", "remove", "reverse", "setdefault", "sort", "update"}
+WALKERS = {"enumerate", "zip", "reversed"}
 BARRED = ["typing", "enum", "open", "input", "eval", "exec", "global", "lambda", "async", "await", "print"]
 
 
 def trees():
     """Each file's path and its parsed text."""
     return [(path, ast.parse(path.read_text())) for path in FILES]
+
+
+def choices(node):
+    """What the expression may be: itself, or each side of a choice."""
+    if isinstance(node, ast.IfExp):
+        return choices(node.body) + choices(node.orelse)
+    if isinstance(node, ast.BoolOp):
+        return [one for value in node.values for one in choices(value)]
+    return [node]
+
+
+def places(node):
+    """The names and attributes, as texts, whose list the expression may be."""
+    return [ast.unparse(one) for one in choices(node) if isinstance(one, (ast.Name, ast.Attribute))]
+
+
+def walked(node):
+    """The names and attributes, as texts, that a loop over the expression walks."""
+    if isinstance(node, ast.Call) and isinstance(node.func, ast.Name) and node.func.id in WALKERS:
+        return [place for arg in node.args for place in walked(arg)]
+    if isinstance(node, ast.Call) and isinstance(node.func, ast.Attribute):
+        return places(node.func.value) if node.func.attr in ("items", "keys", "values") else []
+    return places(node)
+
+
+def changed(node):
+    """The names and attributes, as texts, whose list or dict something in the node changes."""
+    found = []
+    for inner in ast.walk(node):
+        if isinstance(inner, ast.Call) and isinstance(inner.func, ast.Attribute) and inner.func.attr in CHANGING:
+            found += places(inner.func.value)
+        if isinstance(inner, ast.Subscript) and isinstance(inner.ctx, (ast.Store, ast.Del)):
+            found += places(inner.value)
+        if isinstance(inner, ast.AugAssign):
+            found += places(inner.target)
+    return found
+
+
+def same(function, place):
+    """All names and attributes of the function that may be the same list as this one, by assignments."""
+    pairs = [(ast.unparse(target), other) for node in ast.walk(function) if isinstance(node, ast.Assign)
+             for target in node.targets for other in places(node.value)]
+    pairs += [(high, low) for low, high in pairs]
+    found, left = {place}, [place]
+    while left:
+        one = left.pop()
+        further = {high for low, high in pairs if low == one} - found
+        found |= further
+        left += further
+    return found
+
+
+def changed_walks(function):
+    """The lines of all loops in the function that change what they walk, whatever its name there."""
+    lines = []
+    for node in ast.walk(function):
+        if isinstance(node, ast.For):
+            heads = [node.iter]
+        elif isinstance(node, (ast.ListComp, ast.SetComp, ast.DictComp)):
+            heads = [inner.iter for inner in node.generators]
+        else:
+            continue
+        whole = {place for head in heads for at in walked(head) for place in same(function, at)}
+        if whole & set(changed(node)):
+            lines.append(node.lineno)
+    return lines
 
 
 class Form(unittest.TestCase):
@@ -90,6 +158,23 @@ class Form(unittest.TestCase):
             for node in ast.walk(tree):
                 if isinstance(node, ast.Name):
                     self.assertIn(node.id, known, path)
+
+    def test_loops_do_not_change_what_they_walk(self):
+        for path, tree in trees():
+            for node in ast.walk(tree):
+                if isinstance(node, ast.FunctionDef):
+                    self.assertEqual(changed_walks(node), [], (path, node.name))
+
+    def test_changed_walks_are_found(self):
+        heads = {"xs": [3], "enumerate(xs)": [3], "xs if ys else zs": [3], "zs or xs": [3], "ys": [3], "b.rows": [3],
+                 "list(xs)": [], "list(ys)": [], "zs": [], "sorted(b.rows)": []}
+        for head, lines in heads.items():
+            text = f"def f(xs, zs, b):\n    ys = b.rows = xs\n    for x in {head}:\n        xs.append(x)\n"
+            self.assertEqual(changed_walks(ast.parse(text)), lines, head)
+        text = "def f(xs):\n  while xs:\n    ys = []\n    for x in xs:\n      ys.append(x)\n    xs = ys\n"
+        self.assertEqual(changed_walks(ast.parse(text)), [4])
+        self.assertEqual(changed_walks(ast.parse(text.replace("in xs:", "in list(xs):"))), [])
+        self.assertEqual(changed_walks(ast.parse("def f(xs):\n    return [xs.pop() for x in xs]\n")), [2])
 
     def test_words_and_signs(self):
         for path, tree in trees():
